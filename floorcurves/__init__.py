@@ -1,0 +1,1 @@
+"""Floorcurves: one count told by paths, by floors, and by ends."""

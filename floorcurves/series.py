@@ -1,0 +1,24 @@
+"""Lists of whole numbers reckoned place by place: what polynomials and shades have in common."""
+
+
+def without_last_noughts(numbers):
+    kept = list(numbers)
+    while kept and kept[-1] == 0:
+        kept.pop()
+    return kept
+
+
+def sum_by_place(one, other):
+    total = [0] * max(len(one), len(other))
+    for numbers in (one, other):
+        for place, number in enumerate(numbers):
+            total[place] += number
+    return total
+
+
+def product_by_place(one, other):
+    total = [0] * (len(one) + len(other))
+    for place, number in enumerate(one):
+        for further, factor in enumerate(other):
+            total[place + further] += number * factor
+    return total
