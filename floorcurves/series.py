@@ -22,3 +22,8 @@ def product_by_place(one, other):
         for further, factor in enumerate(other):
             total[place + further] += number * factor
     return total
+
+
+def with_more(numbers, place, more):
+    # For tuples, so that what comes of it can be a key.
+    return numbers[:place] + (numbers[place] + more,) + numbers[place + 1:]
