@@ -4,7 +4,7 @@ from floorcurves.bounds import need_wide
 from floorcurves.floors import drawings, ends_at, worth
 from floorcurves.marks import how_many_orders
 from floorcurves.rows import need_rows, weights_of
-from floorcurves.series import with_more
+from floorcurves.series import product_of, with_more
 
 
 def free_placings(d, room, weights, first):
@@ -33,13 +33,6 @@ def how_many_held(room, weights):
     return total
 
 
-def free_worth(weights):
-    product = 1
-    for weight in weights:
-        product *= weight
-    return product
-
-
 def by_ended(d, k, held, free):
     need_wide(d, k)
     need_rows(d, held, free)
@@ -50,5 +43,5 @@ def by_ended(d, k, held, free):
     for drawing in drawings(d, k):
         for marks, room in free_placings(d, tuple(ends_at(d, drawing)), free_weights, 0):
             number = how_many_held(room, held_weights) * how_many_orders(d, drawing + marks)
-            total += worth(drawing) * free_worth(free_weights) * number
+            total += worth(drawing) * product_of(free_weights) * number
     return total

@@ -3,7 +3,7 @@
 from floorcurves.bounds import need_wide
 from floorcurves.choosing import choose
 from floorcurves.rows import need_rows, row_weight
-from floorcurves.series import with_more
+from floorcurves.series import product_of, with_more
 
 
 def filled_up(row, length):
@@ -40,45 +40,58 @@ def choices(row, chosen):
 
 
 def weights_gained(row, fuller):
-    product = 1
+    found = []
     for place, number in enumerate(row):
-        for again in range(fuller[place] - number):
-            product *= place + 1
-    return product
+        found.extend([place + 1] * (fuller[place] - number))
+    return found
 
 
-def with_one_held(d, k, held, free, known):
-    total = 0
+def with_one_held(d, k, held, free):
+    found = []
     for place, number in enumerate(free):
         if number > 0:
-            more = with_more(held, place, 1)
-            fewer = with_more(free, place, -1)
-            total += (place + 1) * counted(d, k, more, fewer, known)
-    return total
+            lesser = (d, k, with_more(held, place, 1), with_more(free, place, -1))
+            found.append((1, [place + 1], lesser))
+    return found
 
 
-def with_one_degree_fewer(d, k, held, free, known):
-    total = 0
+def with_one_degree_fewer(d, k, held, free):
+    found = []
     for kept in rows_within(held):
         for freed in rows_beyond(free, d - 1 - row_weight(kept), 0):
-            crossings = k + sum(freed) - sum(free) - d + 1
-            factor = choices(held, kept) * choices(freed, free) * weights_gained(free, freed)
-            total += factor * counted(d - 1, crossings, kept, freed, known)
-    return total
+            lesser = (d - 1, k + sum(freed) - sum(free) - d + 1, kept, freed)
+            found.append((choices(held, kept) * choices(freed, free), weights_gained(free, freed), lesser))
+    return found
 
 
-def counted(d, k, held, free, known):
-    if k < 0:
+def summands(asked):
+    # Each is a tuple: a number, weights, and what is asked with fewer free ends or of a lesser degree; these three are
+    # multiplied together.
+    d = asked[0]
+    k = asked[1]
+    held = asked[2]
+    free = asked[3]
+    return with_one_held(d, k, held, free) + with_one_degree_fewer(d, k, held, free)
+
+
+def counted(asked, known):
+    if asked[1] < 0:
         return 0
-    if d == 1:
-        return 1 if k == 0 else 0
-    key = (d, k, held, free)
-    if key not in known:
-        known[key] = with_one_held(d, k, held, free, known) + with_one_degree_fewer(d, k, held, free, known)
-    return known[key]
+    if asked[0] == 1:
+        return 1 if asked[1] == 0 else 0
+    if asked not in known:
+        total = 0
+        for number, weights, lesser in summands(asked):
+            total += number * product_of(weights) * counted(lesser, known)
+        known[asked] = total
+    return known[asked]
+
+
+def asked_of(d, k, held, free):
+    need_wide(d, k)
+    need_rows(d, held, free)
+    return (d, k, filled_up(held, d), filled_up(free, d))
 
 
 def by_ends(d, k, held, free):
-    need_wide(d, k)
-    need_rows(d, held, free)
-    return counted(d, k, filled_up(held, d), filled_up(free, d), {})
+    return counted(asked_of(d, k, held, free), {})

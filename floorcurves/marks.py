@@ -73,10 +73,13 @@ def orders(floor, waiting):
     return found
 
 
+def all_marks(d, drawing):
+    return [(floor, floor, 0) for floor in range(1, d + 1)] + drawing + end_marks(d, drawing)
+
+
 def markings(d, drawing):
     need_sound(d, drawing)
-    floors = [(floor, floor, 0) for floor in range(1, d + 1)]
-    return orders(0, floors + drawing + end_marks(d, drawing))
+    return orders(0, all_marks(d, drawing))
 
 
 def count_by_floors(d, k):

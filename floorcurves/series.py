@@ -1,4 +1,4 @@
-"""Lists of whole numbers reckoned place by place: what polynomials and shades have in common."""
+"""Lists of whole numbers: reckoned place by place, as polynomials and shades are, and multiplied together."""
 
 
 def without_last_noughts(numbers):
@@ -27,3 +27,10 @@ def product_by_place(one, other):
 def with_more(numbers, place, more):
     # For tuples, so that what comes of it can be a key.
     return numbers[:place] + (numbers[place] + more,) + numbers[place + 1:]
+
+
+def product_of(numbers):
+    product = 1
+    for number in numbers:
+        product *= number
+    return product
